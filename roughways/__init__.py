@@ -1,0 +1,1 @@
+"""Ways over rough ground: cheapest ways, fields that are mended, walkers."""
