@@ -43,6 +43,13 @@ class Land:
     def steps_from(self, cell):
         return [(near, self.step_cost(cell, near)) for near in self.neighbours(cell) if self.has_step(cell, near)]
 
+    # For any two cells: what the step costs, or None if there is no such step.
+    def cost_between(self, cell, other):
+        for near, step in self.steps[cell]:
+            if near == other:
+                return step
+        return None
+
     def change_cell(self, cell, cost, height):
         self.costs[cell] = cost
         self.heights[cell] = height

@@ -36,6 +36,19 @@ def way_told(land, costs, start, end):
     return list(reversed(cells))
 
 
+# None if the cells are no way.
+def way_cost(land, cells):
+    if land.is_wall(cells[0]):
+        return None
+    total = 0
+    for place in range(1, len(cells)):
+        step = land.cost_between(cells[place - 1], cells[place])
+        if step is None:
+            return None
+        total += step
+    return total
+
+
 def prices_told(costs, most):
     return [most if cost is None else min(cost, most) for cost in costs]
 

@@ -44,6 +44,46 @@ def walker(c):
     return [9, c]
 
 
+def go(w, t):
+    return [10, w, t]
+
+
+def plan(w):
+    return [11, w]
+
+
+def pass_on(n):
+    return [12, n]
+
+
+def where(w):
+    return [13, w]
+
+
+def remove(w):
+    return [14, w]
+
+
+def rest(w):
+    return [15, w]
+
+
+def try_plan(w, cells):
+    return [16, w, len(cells)] + list(cells)
+
+
+def who(c, tick):
+    return [17, c, tick]
+
+
+def cell(c):
+    return [18, c]
+
+
+def cost(cells):
+    return [19, len(cells)] + list(cells)
+
+
 def joined(calls):
     return [number for call in calls for number in call]
 
@@ -71,6 +111,6 @@ def last(*calls):
     return ask(*calls)[-1]
 
 
-def flat(wide, high, cell="10"):
+def flat(wide, high, one="10"):
     """A ground's text with the same cell everywhere."""
-    return "\n".join([cell * wide] * high)
+    return "\n".join([one * wide] * high)

@@ -1,7 +1,10 @@
+"""The one list that is handed in and the one that is given back, and that nothing is kept or changed."""
+
 import unittest
 
 import roughways.ground
-from helper import at, change, door, field, ground, joined, prices, proves, walker, way, within
+from helper import at, cell, change, cost, door, field, go, ground, joined, parted, pass_on, plan, prices, proves
+from helper import remove, rest, try_plan, walker, way, where, who, within
 
 ALL_CALLS = [
     ground("10a2\n3011"),
@@ -14,6 +17,18 @@ ALL_CALLS = [
     at(0, 0),
     change(2, 1, 0),
     walker(1),
+    go(1, 2),
+    plan(1),
+    pass_on(3),
+    where(1),
+    try_plan(1, [3, 2, 0]),
+    try_plan(1, [2, 0, 1]),
+    who(0, 4),
+    rest(1),
+    remove(1),
+    cell(1),
+    cost([0, 1, 3, 2]),
+    cost([0, 3]),
 ]
 
 ALL_ANSWERS = [
@@ -27,6 +42,18 @@ ALL_ANSWERS = [
     2, 5, 2,
     3, 1, 1, 2,
     1, 1,
+    2, 2, 8,
+    5, 3, 1, 0, 2, 2,
+    1, 3,
+    4, 2, 0, 2, 3,
+    3, 1, 0, 1,
+    1, 0,
+    1, 1,
+    3, 3, 2, 1,
+    1, 0,
+    4, 1, 2, 1, 1,
+    2, 1, 5,
+    1, 0,
 ]
 
 
@@ -44,9 +71,21 @@ class Interface(unittest.TestCase):
         roughways.ground.answers(calls)
         self.assertEqual(calls, before)
 
+    def test_each_call_is_there(self):
+        self.assertEqual({call[0] for call in ALL_CALLS}, set(range(20)))
+        self.assertEqual(len(parted(ALL_ANSWERS)), len(ALL_CALLS))
+
+    def test_a_plan_handed_in_is_not_kept_as_it_was_handed_in(self):
+        calls = joined([ground("101010"), walker(0), try_plan(1, [0, 1, 2]), pass_on(1), go(1, 0), plan(1)])
+        before = list(calls)
+        told = roughways.ground.answers(calls)
+        self.assertEqual(calls, before)
+        self.assertEqual(told[-4:], [2, 1, 0, 0])
+
     def test_nothing_is_kept_from_one_time_to_the_next(self):
         first = roughways.ground.answers(joined(ALL_CALLS))
         self.assertEqual(roughways.ground.answers(way(0, 0)), [1, -2])
+        self.assertEqual(roughways.ground.answers(joined([ground("10"), where(1), pass_on(1)])), [2, 1, 1, 1, -4, 1, 1])
         self.assertEqual(roughways.ground.answers(joined(ALL_CALLS)), first)
 
     def test_answers_are_plain_whole_numbers_in_a_plain_list(self):
